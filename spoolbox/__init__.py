@@ -1,0 +1,1 @@
+"""Spoolbox: files of tracks that can be read in parts, entered, cut, joined and saved."""

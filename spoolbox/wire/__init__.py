@@ -1,0 +1,1 @@
+"""The wire: numbers, checksums, stuffing and leaves as rows of bytes."""
