@@ -1,0 +1,1 @@
+"""Editing: files made from other files, without decoding their units."""

@@ -1,0 +1,1 @@
+"""The model: presentations and their parts."""
