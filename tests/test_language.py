@@ -1,6 +1,7 @@
 """The rules for the text of the program that a test can see (../shared/LANGUAGE.md)."""
 
 import ast
+import builtins
 import os
 import subprocess
 import sys
@@ -17,8 +18,22 @@ INTERFACE = {
     "wire/sums": ["checksum", "four_bytes", "number_of"],
     "wire/stuffing": ["stuff", "unstuff"],
     "wire/leaves": ["write_leaf", "read_leaf", "bulk"],
+    "wire/files": ["write_leaves", "places"],
     "model/presentation": ["is_presentation", "end_of", "keys_of"],
+    "model/patches": ["change", "changed"],
+    "model/bodies": ["head_body", "tags_body", "index_body", "end_body", "unit_body", "read_head", "read_tags",
+                     "read_index", "read_end", "read_content"],
+    "order/index": ["reach", "greedy", "best_index", "index_witness", "check_index"],
+    "writing/writer": ["write", "leaves_of"],
+    "reading/parts": ["Reader"],
 }
+METHODS = {("reading/parts", "Reader"): ["feed", "close", "given", "leaves", "copy"]}
+# The builtins of rule L8, without those that a later rule takes away.
+BUILTINS = """
+    len range enumerate zip min max sum abs sorted reversed int str bool list tuple dict set frozenset isinstance ord
+    repr any all divmod pow Exception ValueError TypeError KeyError IndexError LookupError ZeroDivisionError
+    ArithmeticError OverflowError RuntimeError NotImplementedError StopIteration
+""".split()
 
 
 def text_of(path):
@@ -55,6 +70,21 @@ class TestLanguage(unittest.TestCase):
                     if isinstance(node.value, str):
                         self.assertNotIn("%", node.value, path)
 
+    def test_no_builtin_but_those_that_are_allowed(self):
+        for path in FILES:
+            for node in ast.walk(ast.parse(text_of(path))):
+                if isinstance(node, ast.Name) and hasattr(builtins, node.id):
+                    self.assertIn(node.id, BUILTINS, path)
+                if isinstance(node, ast.arg):
+                    self.assertFalse(hasattr(builtins, node.arg), (path, node.arg))
+
+    def test_an_error_is_created_where_it_is_raised(self):
+        for path in FILES:
+            for node in ast.walk(ast.parse(text_of(path))):
+                if isinstance(node, ast.Raise) and node.exc is not None:
+                    self.assertIsInstance(node.exc, ast.Call, path)
+                    self.assertIsInstance(node.exc.func, ast.Name, path)
+
     def test_imports_are_from_the_package_by_full_names(self):
         for path in FILES:
             for node in ast.walk(ast.parse(text_of(path))):
@@ -73,6 +103,12 @@ class TestLanguage(unittest.TestCase):
             tree = ast.parse(text_of(os.path.join(PACKAGE, *name.split("/")) + ".py"))
             found = [node.name for node in tree.body if isinstance(node, (ast.FunctionDef, ast.ClassDef))]
             self.assertLessEqual(set(wanted), set(found), name)
+
+    def test_the_methods_of_the_interface_stand_in_their_classes(self):
+        for (name, wanted), methods in METHODS.items():
+            tree = ast.parse(text_of(os.path.join(PACKAGE, *name.split("/")) + ".py"))
+            found, = [node for node in tree.body if isinstance(node, ast.ClassDef) and node.name == wanted]
+            self.assertLessEqual(set(methods), {node.name for node in found.body if isinstance(node, ast.FunctionDef)})
 
     def test_each_file_can_be_imported_alone(self):
         for path in FILES:

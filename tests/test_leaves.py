@@ -2,17 +2,13 @@ import copy
 import random
 import unittest
 
-from helpers import WORD, fault_of, first_fault, joined, parts_of, starts_of, steps, sum_of
+from helpers import WORD, fault_of, first_fault, joined, parts_of, starts_of, steps, sum_of, with_field
 from spoolbox.wire.leaves import END, HEAD, INDEX, TAGS, UNIT, bulk, read_leaf, write_leaf
 
 TOPS = (4, WORD - 1, WORD - 1, 15, 2 ** 24 - 1, 2 ** 40 - 1, 2 ** 24 - 1, 1)
 PLAIN = (2, 0x01020304, 7, 3, 130, 70000, 20000, 1, [5, 0, 255])
 NAMES = ("BadKind", "BadStamp", "BadNumber", "BadTrack", "BadOrdinal", "BadTime", "BadSpan", "BadKey", "BadSize",
          "ShortBody")
-
-
-def with_field(leaf, at, field):
-    return leaf[:at] + (field,) + leaf[at + 1:]
 
 
 def sample_leaves():

@@ -2,7 +2,7 @@ import struct
 import unittest
 
 from helpers import WORD, bits_checksum
-from spoolbox.wire.sums import checksum, four_bytes, number_of
+from spoolbox.wire.sums import checksum, checksum_on, four_bytes, number_of
 
 NUMBERS = (0, 1, 2, 127, 128, 255, 256, 257, 65535, 65536, 2 ** 24 - 1, 2 ** 24, 0x01020304, WORD - 2, WORD - 1)
 
@@ -31,6 +31,11 @@ class TestChecksum(unittest.TestCase):
             for bit in range(8):
                 other = row[:at] + [row[at] ^ 1 << bit] + row[at + 1:]
                 self.assertNotEqual(checksum(other), checksum(row))
+
+    def test_a_checksum_can_be_carried_on(self):
+        row = [0, 0, 255, 7] * 9
+        for cut in range(len(row) + 1):
+            self.assertEqual(checksum_on(checksum(row[:cut]), row[cut:]), checksum(row))
 
     def test_leading_zeros_count(self):
         self.assertEqual(len({checksum([0] * many) for many in range(20)}), 20)

@@ -11,7 +11,12 @@ HALVES = (
 
 def checksum(row):
     """Return the checksum of a row."""
-    remainder = 0xFFFFFFFF
+    return checksum_on(0, row)
+
+
+def checksum_on(total, row):
+    """Return the checksum of a row behind other bytes, whose checksum is `total`; that of no bytes is 0."""
+    remainder = total ^ 0xFFFFFFFF
     for byte in row:
         remainder = remainder ^ byte
         remainder = remainder >> 4 ^ HALVES[remainder & 15]

@@ -1,0 +1,1 @@
+"""Order: which units the index of a file names."""

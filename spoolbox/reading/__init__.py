@@ -1,0 +1,1 @@
+"""Reading: files, from left to right, whole or in parts."""
