@@ -1,7 +1,7 @@
 """Lists of bytes for which each error of point 305 is the first one."""
 
-from helpers import (SMALL, SMALL_ORDER, all_leaves, end_body_of, file_of, index_of, joined, parts_of, sealed, steps,
-                     stuffed, told_end, told_index, with_field)
+from helpers import (SMALL, SMALL_ORDER, WORD, all_leaves, end_body_of, file_of, index_of, joined, parts_of, sealed,
+                     steps, stuffed, told_end, told_index, with_field)
 
 STAMP = 77
 ENTRIES = [(1, 2), (3, 1)]
@@ -219,3 +219,31 @@ GROUPS = (starts, pieces, writings, stamps_and_numbers, orders, fields, bodies, 
 def all_faults():
     """Tuples of the name of the error, its `at`, and the list of bytes; for each a byte decides the error."""
     return [fault for group in GROUPS for fault in group()]
+
+
+def wrong_leaves(chance):
+    """The leaves of a file with some fields, some places and some bodies changed, and mostly a right end."""
+    leaves = list(all_leaves(SMALL, 77, SMALL_ORDER, chance.choice(([], ENTRIES)))[:10])
+    for _ in range(chance.randrange(4)):
+        number = chance.randrange(len(leaves))
+        what = chance.randrange(5)
+        if what == 0:
+            at = chance.randrange(8)
+            other = leaves[chance.randrange(len(leaves))][at]
+            field = chance.choice((0, 1, 2, 3, 4, leaves[number][at] + 1, other))
+            tops = (4, WORD - 1, WORD - 1, 15, 2 ** 24 - 1, 2 ** 40 - 1, 2 ** 24 - 1, 1)
+            leaves[number] = with_field(leaves[number], at, min(field, tops[at]))
+        elif what == 1:
+            body = list(leaves[number][8])
+            at = chance.randrange(len(body) + 1)
+            body[at:at + chance.randrange(2)] = [chance.choice((0, 1, 2, 97))] * chance.randrange(2)
+            leaves[number] = with_field(leaves[number], 8, body)
+        elif what == 2:
+            leaves.insert(chance.randrange(len(leaves)), leaves[number])
+        elif what == 3 and len(leaves) > 1:
+            leaves.pop(number)
+        else:
+            leaves.insert(chance.randrange(len(leaves)), leaves.pop(number))
+    if chance.random() < 0.8:
+        leaves = [with_field(leaf, 2, number) for number, leaf in enumerate(leaves)]
+    return sealed(leaves)

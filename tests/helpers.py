@@ -203,18 +203,21 @@ def unit_leaf_of(presentation, stamp, number, track, ordinal):
     return (2, stamp, number, track, ordinal, time, span, int(not leans), body)
 
 
+def with_index(leaves, entries):
+    """The leaves with an index behind them that names these units."""
+    rows = [(leaf[3], leaf[5], len(file_of(leaves[:at]))) for at, leaf in enumerate(leaves)
+            if leaf[0] == 2 and (leaf[3], leaf[4]) in entries]
+    return leaves + [(3, leaves[0][1], len(leaves), 0, 0, 0, 0, 0, index_of(rows))]
+
+
 def leaves_without_end(presentation, stamp, order, entries):
-    """Points 301 to 303; the entries of the index stand as their offsets tell."""
+    """Points 301 to 303."""
     leaves = [(0, stamp, 0, 0, 0, 0, 0, 0, head_of(presentation))]
     if presentation[3]:
         leaves.append((1, stamp, 1, 0, 0, 0, 0, 0, tags_of(presentation[3])))
-    rows = []
     for track, ordinal in order:
-        if (track, ordinal) in entries:
-            time = presentation[2][track - 1][2][ordinal][0]
-            rows.append((track, time, len(file_of(leaves))))
         leaves.append(unit_leaf_of(presentation, stamp, len(leaves), track, ordinal))
-    return leaves + [(3, stamp, len(leaves), 0, 0, 0, 0, 0, index_of(rows))]
+    return with_index(leaves, entries)
 
 
 def all_leaves(presentation, stamp, order, entries):
@@ -225,6 +228,41 @@ def order_by_time(presentation):
     tracks = presentation[2]
     pairs = [(track, ordinal) for track in range(1, len(tracks) + 1) for ordinal in range(len(tracks[track - 1][2]))]
     return sorted(pairs, key=lambda pair: (tracks[pair[0] - 1][2][pair[1]][0], pair[0]))
+
+
+def some_order(chance, presentation):
+    """Any order that keeps the order of each track."""
+    rows = [[(at + 1, ordinal) for ordinal in range(len(track[2]))] for at, track in enumerate(presentation[2])]
+    order = []
+    while any(rows):
+        order.append(chance.choice([row for row in rows if row]).pop(0))
+    return order
+
+
+def keys_by_track(presentation):
+    return [[not leans for _, _, _, leans in units] for _, _, units in presentation[2]]
+
+
+def some_layout(chance, presentation):
+    """Any stamp, any order of the units and any entries of the index."""
+    names = names_of(keys_by_track(presentation))
+    entries = chance.sample(names, chance.randrange(len(names) + 1))
+    return (chance.randrange(WORD), some_order(chance, presentation), entries)
+
+
+def any_file(chance, presentation):
+    """Any file of a presentation."""
+    return file_of(all_leaves(presentation, *some_layout(chance, presentation)))
+
+
+def spoil(presentation):
+    """Change all lists of a presentation."""
+    for _, _, units in presentation[2]:
+        for _, _, content, _ in units:
+            content.append(5)
+        units.clear()
+    presentation[2].clear()
+    presentation[3].clear()
 
 
 def some_presentation(chance, most_units=8, most_content=12):

@@ -2,7 +2,7 @@ import copy
 import random
 import unittest
 
-from helpers import (SMALL, WORD, Found, change_of, end_body_of, fault_of, head_of, index_of, sized_text,
+from helpers import (SMALL, WORD, Found, change_of, end_body_of, fault_of, head_of, index_of,
                      some_presentation, steps, tags_of, told_content, told_end, told_head, told_index, told_tags)
 from spoolbox.model.bodies import (end_body, head_body, index_body, read_content, read_end, read_head, read_index,
                                    read_tags, tags_body, unit_body)

@@ -1,9 +1,9 @@
 import random
 import unittest
 
-from faults import ENTRIES, LEAVES, SOUND, all_faults, found_at_the_end, writings
-from helpers import (SMALL, SMALL_ORDER, WORD, Reading, all_leaves, fault_of, file_of, index_of, joined, names_of,
-                     order_by_time, parts_of, sealed, some_presentation, stuffed, with_field)
+from faults import LEAVES, SOUND, all_faults, found_at_the_end, writings, wrong_leaves
+from helpers import (SMALL, SMALL_ORDER, WORD, Reading, all_leaves, any_file, fault_of, file_of, index_of, joined,
+                     parts_of, sealed, some_order, some_presentation, spoil, stuffed, with_field)
 from spoolbox.reading.parts import Reader
 
 FAULTS = all_faults()
@@ -23,10 +23,6 @@ def parts_by_chance(chance, data):
         parts.append(data[:size])
         data = data[size:]
     return parts
-
-
-def keys_of(presentation):
-    return [[not leans for _, _, _, leans in units] for _, _, units in presentation[2]]
 
 
 class Expected:
@@ -121,20 +117,14 @@ class TestFiles(ReaderCase):
         chance = random.Random(307)
         for _ in range(150):
             presentation = some_presentation(chance)
-            names = names_of(keys_of(presentation))
-            entries = chance.sample(names, chance.randrange(len(names) + 1))
-            leaves = all_leaves(presentation, chance.randrange(WORD), order_by_time(presentation), entries)
-            data = file_of(leaves)
+            data = any_file(chance, presentation)
             self.assertEqual(Reading(data).outcome, presentation)
             self.check_parts(data, parts_by_chance(chance, data))
 
     def test_other_orders_and_other_indexes(self):
         chance = random.Random(303)
         for _ in range(60):
-            rows = [[pair for pair in SMALL_ORDER if pair[0] == track] for track in (1, 3)]
-            order = []
-            while any(rows):
-                order.append(chance.choice([row for row in rows if row]).pop(0))
+            order = some_order(chance, SMALL)
             entries = chance.sample([(1, 2), (3, 1), (3, 3)], chance.randrange(4))
             data = file_of(all_leaves(SMALL, 5, order, entries))
             reader = Reader()
@@ -261,7 +251,7 @@ class TestFaults(ReaderCase):
         chance = random.Random(310)
         names = set()
         for _ in range(1500):
-            leaves = self.wrong_leaves(chance)
+            leaves = wrong_leaves(chance)
             data = file_of(leaves)
             if chance.random() < 0.3:
                 at = chance.randrange(len(data))
@@ -271,33 +261,6 @@ class TestFaults(ReaderCase):
             names.add(outcome[0] if len(outcome) == 2 else "sound")
         self.assertGreater(len(names), 15)
         self.assertIn("sound", names)
-
-    def wrong_leaves(self, chance):
-        """The leaves of a file with some fields, some places and some bodies changed, and mostly a right end."""
-        leaves = list(all_leaves(SMALL, 77, SMALL_ORDER, chance.choice(([], ENTRIES)))[:10])
-        for _ in range(chance.randrange(4)):
-            number = chance.randrange(len(leaves))
-            what = chance.randrange(5)
-            if what == 0:
-                at = chance.randrange(8)
-                other = leaves[chance.randrange(len(leaves))][at]
-                field = chance.choice((0, 1, 2, 3, 4, leaves[number][at] + 1, other))
-                tops = (4, WORD - 1, WORD - 1, 15, 2 ** 24 - 1, 2 ** 40 - 1, 2 ** 24 - 1, 1)
-                leaves[number] = with_field(leaves[number], at, min(field, tops[at]))
-            elif what == 1:
-                body = list(leaves[number][8])
-                at = chance.randrange(len(body) + 1)
-                body[at:at + chance.randrange(2)] = [chance.choice((0, 1, 2, 97))] * chance.randrange(2)
-                leaves[number] = with_field(leaves[number], 8, body)
-            elif what == 2:
-                leaves.insert(chance.randrange(len(leaves)), leaves[number])
-            elif what == 3 and len(leaves) > 1:
-                leaves.pop(number)
-            else:
-                leaves.insert(chance.randrange(len(leaves)), leaves.pop(number))
-        if chance.random() < 0.8:
-            leaves = [with_field(leaf, 2, number) for number, leaf in enumerate(leaves)]
-        return sealed(leaves)
 
 
 class TestCopies(ReaderCase):
@@ -401,12 +364,7 @@ class TestArguments(unittest.TestCase):
         for _ in range(2):
             presentation = reader.close()
             self.assertEqual(presentation, SMALL)
-            for _, _, units in presentation[2]:
-                for _, _, content, _ in units:
-                    content.append(5)
-                units.clear()
-            presentation[2].clear()
-            presentation[3].clear()
+            spoil(presentation)
         self.assertEqual(reader.copy().close(), SMALL)
 
     def test_a_part_with_an_error_is_not_kept(self):

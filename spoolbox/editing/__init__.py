@@ -1,1 +1,1 @@
-"""Editing: files made from other files, without decoding their units."""
+"""Editing: what is shown, and files that are entered, cut and joined without decoding all of their units."""

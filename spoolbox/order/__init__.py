@@ -1,1 +1,1 @@
-"""Order: which units the index of a file names."""
+"""Order: in which order the units of a file stand, and which of them its index names."""

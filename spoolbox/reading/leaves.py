@@ -4,7 +4,7 @@ from spoolbox.errors import BadBody, BadCheck, BadKey, BadKind, BadNumber, BadOr
 from spoolbox.errors import BadStart, BadStuffing, BadTime, BadTrack, Behind, CutOff, EmptyPiece, MissingUnits
 from spoolbox.errors import NoEnd, NoTrack, OtherStamp, ShortBody, TooManyUnits, WrongCount, WrongEntry, WrongFields
 from spoolbox.errors import WrongKey, WrongNumber, WrongOrder, WrongOrdinal, WrongSum, WrongTime
-from spoolbox.model.bodies import read_end, read_head, read_index, read_tags
+from spoolbox.model.bodies import read_content, read_end, read_head, read_index, read_tags
 from spoolbox.wire.leaves import END, HEAD, INDEX, TAGS, UNIT, read_leaf
 from spoolbox.wire.stuffing import unstuff
 from spoolbox.wire.sums import checksum_on
@@ -69,6 +69,17 @@ def told_by(leaf, number):
         return read_end(body)
     except BadBody:
         raise BadBody(number) from None
+
+
+def content_of(leaf, contents):
+    """Return the content of a unit; `contents` has that of the unit before it, by its track, if it leans."""
+    before = None
+    if leaf[7] == 0:
+        before = contents[leaf[3]]
+    try:
+        return read_content(leaf[8], before)
+    except BadBody:
+        raise BadBody(leaf[2]) from None
 
 
 class Walk:

@@ -1,8 +1,7 @@
 """Reading in parts: the units of a file as soon as their leaves are there."""
 
-from spoolbox.errors import BadBody, SpoolboxError
-from spoolbox.model.bodies import read_content
-from spoolbox.reading.leaves import Walk
+from spoolbox.errors import SpoolboxError
+from spoolbox.reading.leaves import Walk, content_of
 from spoolbox.wire.leaves import UNIT
 
 
@@ -65,24 +64,13 @@ class Reader:
         leaf = self.walk.leaf_before(byte)
         pairs = []
         if leaf is not None and leaf[0] == UNIT:
-            unit = self.unit_of(leaf)
+            content = content_of(leaf, self.contents)
+            unit = (leaf[5], leaf[6], content, leaf[7] == 0)
             self.found.append((leaf[3], unit))
-            self.contents[leaf[3]] = unit[2]
+            self.contents[leaf[3]] = content
             pairs.append((leaf[3], copied(unit)))
         self.walk.pass_on(byte, leaf)
         return pairs
-
-    def unit_of(self, leaf):
-        """Return the unit of a leaf, for which the walk found no error."""
-        _, _, _, track, _, time, span, key, body = leaf
-        before = None
-        if key == 0:
-            before = self.contents[track]
-        try:
-            content = read_content(body, before)
-        except BadBody:
-            raise BadBody(self.walk.number) from None
-        return (time, span, content, key == 0)
 
 
 def copied(unit):
