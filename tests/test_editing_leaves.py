@@ -1,7 +1,9 @@
 import copy
 import unittest
 
-from spoolbox.editing.leaves import numbered, placed, unit_leaves
+from edits import best_file, units_in
+from helpers import SMALL, SMALL_ORDER, all_leaves
+from spoolbox.editing.leaves import file_of, numbered, placed, sketch_of, unit_leaves
 
 LEAVES = [
     (0, 9, 0, 0, 0, 0, 0, 0, [1, 2]),
@@ -32,6 +34,21 @@ class TestEditingLeaves(unittest.TestCase):
         ])
         self.assertEqual(numbered([], 77), [])
         self.assertEqual(numbered(LEAVES, 9), LEAVES)
+
+    def test_sketch_of_has_the_leaves_in_place_of_the_units(self):
+        for tags in (SMALL[3], []):
+            presentation = SMALL[:3] + (tags,)
+            leaves = all_leaves(presentation, 9, SMALL_ORDER, [])
+            tracks = [(name, kind, units_in(leaves, at + 1)) for at, (name, kind, _) in enumerate(SMALL[2])]
+            self.assertEqual(sketch_of(leaves), (SMALL[0], SMALL[1], tracks, tags))
+        self.assertEqual(sketch_of(all_leaves((7, 6, [], []), 9, [], [])), (7, 6, [], []))
+
+    def test_file_of_a_sketch(self):
+        for presentation in (SMALL, (7, 6, [], []), (7, 6, [("", "a", [])], [("a", "b")])):
+            for order in (SMALL_ORDER, sorted(SMALL_ORDER)):
+                leaves = all_leaves(presentation, 9, order if presentation == SMALL else [], [])
+                for count in (0, 1, 2, 64):
+                    self.assertEqual(file_of(sketch_of(leaves), count, 4), best_file(presentation, 4, count))
 
     def test_nothing_is_modified_and_each_list_is_new(self):
         leaves = copy.deepcopy(LEAVES)

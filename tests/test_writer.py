@@ -2,8 +2,8 @@ import copy
 import random
 import unittest
 
-from helpers import (SMALL, SMALL_ORDER, WORD, Reading, all_leaves, best_of, fault_of, file_of, names_of,
-                     order_by_time, some_presentation, sum_of, told_end, told_index)
+from helpers import (SMALL, SMALL_ORDER, WORD, Reading, all_leaves, best_of, fault_of, file_of, keys_by_track,
+                     names_of, order_by_time, some_layout, some_order, some_presentation, sum_of, told_end, told_index)
 from spoolbox.model.presentation import is_presentation
 from spoolbox.writing.writer import leaves_of, write
 
@@ -20,12 +20,8 @@ SAME_TIMES_ORDER = [(2, 0), (1, 0), (2, 1), (3, 0), (1, 1), (2, 2), (1, 2), (3, 
 NAMED = (EMPTY, NO_UNITS, UNTAGGED, SAME_TIMES, SMALL)
 
 
-def keys_of(presentation):
-    return [[not leans for _, _, _, leans in units] for _, _, units in presentation[2]]
-
-
 def expected_leaves(presentation, stamp, most):
-    index, _ = best_of(keys_of(presentation), most)
+    index, _ = best_of(keys_by_track(presentation), most)
     return all_leaves(presentation, stamp, order_by_time(presentation), index)
 
 
@@ -33,15 +29,6 @@ def many_keys(tracks, units):
     """A presentation in which each unit is a key; its files are long enough for offsets of three bytes."""
     rows = [("", "a", [(3 * k, 2, [track, k % 256, 0] * 5, False) for k in range(units)]) for track in range(tracks)]
     return (1, 0, rows, [])
-
-
-def some_order(chance, presentation):
-    """Any order that keeps the order of each track."""
-    rows = [[(at + 1, ordinal) for ordinal in range(len(track[2]))] for at, track in enumerate(presentation[2])]
-    order = []
-    while any(rows):
-        order.append(chance.choice([row for row in rows if row]).pop(0))
-    return order
 
 
 class TestWrite(unittest.TestCase):
@@ -182,13 +169,11 @@ class TestLeavesOf(unittest.TestCase):
         chance = random.Random(301)
         presentations = list(NAMED) + [some_presentation(chance) for _ in range(100)]
         for presentation in presentations:
-            names = names_of(keys_of(presentation))
             for _ in range(5):
-                entries = chance.sample(names, chance.randrange(len(names) + 1))
-                self.check(presentation, chance.randrange(WORD), some_order(chance, presentation), entries)
+                self.check(presentation, *some_layout(chance, presentation))
 
     def test_the_entries_in_any_order(self):
-        names = names_of(keys_of(SAME_TIMES))
+        names = names_of(keys_by_track(SAME_TIMES))
         self.assertEqual(names, [(1, 1), (2, 1), (2, 2), (3, 1)])
         expected = self.check(SAME_TIMES, 4, SAME_TIMES_ORDER, names)
         for _ in range(4):
@@ -206,7 +191,7 @@ class TestLeavesOf(unittest.TestCase):
         presentation = many_keys(2, 300)
         order = some_order(random.Random(2), presentation)
         chance = random.Random(100)
-        entries = chance.sample(names_of(keys_of(presentation)), 100)
+        entries = chance.sample(names_of(keys_by_track(presentation)), 100)
         leaves = leaves_of(presentation, 0, order, entries)
         self.assertEqual(leaves, all_leaves(presentation, 0, order, entries))
         rows = told_index(leaves[-2][8])

@@ -17,6 +17,11 @@ def write(presentation, stamp, most=100):
         raise OutOfRange(1)
     if most < 0 or most > MOST_ENTRIES:
         raise OutOfRange(2)
+    return written(presentation, stamp, most)
+
+
+def written(presentation, stamp, most):
+    """Return the file of what surely is a presentation; nothing is checked."""
     index, _ = best_index(keys_of_tracks(presentation), most)
     return write_leaves(leaves_of(presentation, stamp, order_of(presentation), index))
 
@@ -37,17 +42,28 @@ def order_of(presentation):
 
 def leaves_of(presentation, stamp, order, entries):
     """Return the leaves of the file with this order of units and these units in its index."""
+    leaves = opening(presentation, stamp)
+    for track, ordinal in order:
+        units = presentation[2][track - 1][2]
+        leaves.append(unit_leaf(stamp, len(leaves), track, ordinal, units))
+    return leaves + closing(leaves, stamp, entries)
+
+
+def opening(presentation, stamp):
+    """Return the leaves ahead of those of the units: the head, and the tags if there are any."""
     leaves = [plain_leaf(HEAD, stamp, 0, head_body(presentation))]
     tags = presentation[3]
     if len(tags) > 0:
         leaves.append(plain_leaf(TAGS, stamp, 1, tags_body(tags)))
-    for track, ordinal in order:
-        units = presentation[2][track - 1][2]
-        leaves.append(unit_leaf(stamp, len(leaves), track, ordinal, units))
-    leaves.append(plain_leaf(INDEX, stamp, len(leaves), index_body(rows_of(leaves, entries))))
-    total = checksum(write_leaves(leaves))
-    leaves.append(plain_leaf(END, stamp, len(leaves), end_body(len(leaves) + 1, total)))
     return leaves
+
+
+def closing(leaves, stamp, entries):
+    """Return the index, which names these units, and the end that stand behind all other leaves of a file."""
+    many = len(leaves)
+    index = plain_leaf(INDEX, stamp, many, index_body(rows_of(leaves, entries)))
+    total = checksum(write_leaves(leaves + [index]))
+    return [index, plain_leaf(END, stamp, many + 1, end_body(many + 2, total))]
 
 
 def plain_leaf(kind, stamp, number, body):
